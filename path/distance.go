@@ -1,6 +1,10 @@
 package path
 
-import "cassegrain/api"
+import (
+	"cassegrain/api"
+	"cassegrain/check"
+	"cassegrain/number"
+)
 
 // maxDistance is at least any distance: the sum of the sizes of the components of the longest vector.
 const maxDistance = 3 * 2 * (api.MaxPathPosition + api.MaxPathDoubt)
@@ -27,7 +31,7 @@ func vectorBetween(a, b api.PathTrack, times [2]int) between {
 func (v between) nearest() square {
 	var s square
 	for _, x := range v.at {
-		s = s.plus(squareOf(max(0, size(x)-v.doubt)))
+		s = s.plus(squareOf(max(0, number.Size(x)-v.doubt)))
 	}
 	return s
 }
@@ -36,7 +40,7 @@ func (v between) nearest() square {
 func (v between) farthest() square {
 	var s square
 	for _, x := range v.at {
-		s = s.plus(squareOf(size(x) + v.doubt))
+		s = s.plus(squareOf(number.Size(x) + v.doubt))
 	}
 	return s
 }
@@ -56,7 +60,7 @@ func (v between) distances() api.Range {
 
 // DistanceAt returns the range of the distances of two tracks at a time.
 func DistanceAt(a, b api.PathTrack, time int) (api.Range, api.Errno) {
-	if e := firstError(trackCheck(a), trackCheck(b), timeCheck(time, a, b)); e != api.OK {
+	if e := check.First(trackCheck(a), trackCheck(b), timeCheck(time, a, b)); e != api.OK {
 		return api.Range{}, e
 	}
 	return vectorBetween(a, b, [2]int{time, time}).distances(), api.OK
@@ -64,9 +68,9 @@ func DistanceAt(a, b api.PathTrack, time int) (api.Range, api.Errno) {
 
 // ChangeOf returns the range of the change of the distance of two tracks from times[0] to times[1].
 func ChangeOf(a, b api.PathTrack, times [2]int) (api.Range, api.Errno) {
-	e := firstError(
+	e := check.First(
 		trackCheck(a), trackCheck(b), timeCheck(times[0], a, b), timeCheck(times[1], a, b),
-		require(api.ErrOrder, func() bool { return times[0] <= times[1] }),
+		check.Require(api.ErrOrder, func() bool { return times[0] <= times[1] }),
 	)
 	if e != api.OK {
 		return api.Range{}, e

@@ -4,6 +4,8 @@ import (
 	"slices"
 
 	"cassegrain/api"
+	"cassegrain/check"
+	"cassegrain/number"
 )
 
 // never is the travel of a motion that is not possible.
@@ -15,23 +17,23 @@ type stop struct{ at, rest int }
 // CheckDrive checks a drive.
 func CheckDrive(d api.PathDrive) api.Errno {
 	const limit = api.MaxPathLimit
-	return firstError(
-		require(api.ErrRange, func() bool {
-			return within(d.Turn, 1, api.MaxPathTurn) && within(d.Limits.Lo, -limit, limit) &&
-				within(d.Limits.Hi, -limit, limit) && within(d.Rate, 0, 2*limit)
+	return check.First(
+		check.Require(api.ErrRange, func() bool {
+			return number.Within(d.Turn, 1, api.MaxPathTurn) && number.Within(d.Limits.Lo, -limit, limit) &&
+				number.Within(d.Limits.Hi, -limit, limit) && number.Within(d.Rate, 0, 2*limit)
 		}),
-		require(api.ErrOrder, func() bool { return d.Limits.Lo <= d.Limits.Hi }),
-		require(api.ErrRange, func() bool { return within(d.Start, d.Limits.Lo, d.Limits.Hi) }),
+		check.Require(api.ErrOrder, func() bool { return d.Limits.Lo <= d.Limits.Hi }),
+		check.Require(api.ErrRange, func() bool { return number.Within(d.Start, d.Limits.Lo, d.Limits.Hi) }),
 	)
 }
 
 // checkTargets checks a drive and its targets.
 func checkTargets(d api.PathDrive, targets []int) api.Errno {
-	return firstError(
+	return check.First(
 		func() api.Errno { return CheckDrive(d) },
-		require(api.ErrLarge, func() bool { return len(targets) <= api.MaxPathTargets }),
-		require(api.ErrRange, func() bool {
-			return !slices.ContainsFunc(targets, func(t int) bool { return !within(t, 0, d.Turn-1) })
+		check.Require(api.ErrLarge, func() bool { return len(targets) <= api.MaxPathTargets }),
+		check.Require(api.ErrRange, func() bool {
+			return !slices.ContainsFunc(targets, func(t int) bool { return !number.Within(t, 0, d.Turn-1) })
 		}),
 	)
 }
@@ -46,7 +48,7 @@ func stopsAfter(d api.PathDrive, from []stop, target int) []stop {
 	lo := max(d.Limits.Lo, from[0].at-d.Turn)
 	hi := min(d.Limits.Hi, from[len(from)-1].at+d.Turn)
 	var l []stop
-	for at := target + d.Turn*ceiling(lo-target, d.Turn); at <= hi; at += d.Turn {
+	for at := target + d.Turn*number.Ceiling(lo-target, d.Turn); at <= hi; at += d.Turn {
 		l = append(l, stop{at: at})
 	}
 	return l
@@ -54,7 +56,7 @@ func stopsAfter(d api.PathDrive, from []stop, target int) []stop {
 
 // travelVia returns the minimum travel from a position to a next stop and through all later targets.
 func travelVia(d api.PathDrive, from int, next stop) int {
-	step := size(next.at - from)
+	step := number.Size(next.at - from)
 	if step > d.Rate || next.rest == never {
 		return never
 	}
@@ -98,7 +100,7 @@ func minimumMotion(d api.PathDrive, targets []int) ([]int, int) {
 			return nil, never
 		}
 		i := slices.IndexFunc(stops, func(s stop) bool { return travelVia(d, at, s) == rest })
-		travel += size(stops[i].at - at)
+		travel += number.Size(stops[i].at - at)
 		at = stops[i].at
 		positions = append(positions, at)
 	}
@@ -127,15 +129,15 @@ func CheckPointing(d api.PathDrive, targets, positions []int) (int, api.Errno) {
 	}
 	travel, before := 0, d.Start
 	for i, at := range positions {
-		e := firstError(
-			require(api.ErrBreak, func() bool { return within(at, d.Limits.Lo, d.Limits.Hi) }),
-			require(api.ErrClash, func() bool { return (at-targets[i])%d.Turn == 0 }),
-			require(api.ErrLate, func() bool { return size(at-before) <= d.Rate }),
+		e := check.First(
+			check.Require(api.ErrBreak, func() bool { return number.Within(at, d.Limits.Lo, d.Limits.Hi) }),
+			check.Require(api.ErrClash, func() bool { return (at-targets[i])%d.Turn == 0 }),
+			check.Require(api.ErrLate, func() bool { return number.Size(at-before) <= d.Rate }),
 		)
 		if e != api.OK {
 			return 0, e
 		}
-		travel += size(at - before)
+		travel += number.Size(at - before)
 		before = at
 	}
 	return travel, api.OK

@@ -1,6 +1,9 @@
 package path
 
-import "cassegrain/api"
+import (
+	"cassegrain/api"
+	"cassegrain/check"
+)
 
 // surelyArrived says whether a signal that a sends surely has arrived at b.
 // With later times of b (and with earlier ones of a) it goes on to hold: no point is faster than half as fast as light, so the elapsed time increases by more than the maximum distance.
@@ -18,7 +21,7 @@ func surelyNotArrived(a, b api.PathTrack, sent, received int) bool {
 
 // ReceivedAt returns the range of times at which b receives what a sends.
 func ReceivedAt(a, b api.PathTrack, sent int) (api.Range, api.Errno) {
-	if e := firstError(trackCheck(a), trackCheck(b), timeCheck(sent, a, b)); e != api.OK {
+	if e := check.First(trackCheck(a), trackCheck(b), timeCheck(sent, a, b)); e != api.OK {
 		return api.Range{}, e
 	}
 	last := lastTime(b)
@@ -32,7 +35,7 @@ func ReceivedAt(a, b api.PathTrack, sent int) (api.Range, api.Errno) {
 
 // SentAt returns the range of times at which a may send what b receives.
 func SentAt(a, b api.PathTrack, received int) (api.Range, api.Errno) {
-	if e := firstError(trackCheck(a), trackCheck(b), timeCheck(received, a, b)); e != api.OK {
+	if e := check.First(trackCheck(a), trackCheck(b), timeCheck(received, a, b)); e != api.OK {
 		return api.Range{}, e
 	}
 	first := firstTime(a)
@@ -47,12 +50,12 @@ func SentAt(a, b api.PathTrack, received int) (api.Range, api.Errno) {
 // CheckReceived accepts a signal whose range contains the time at which it is received.
 func CheckReceived(a, b api.PathTrack, x api.PathSignal) api.Errno {
 	lo, hi := x.Received.Lo, x.Received.Hi
-	return firstError(
+	return check.First(
 		trackCheck(a), trackCheck(b),
 		timeCheck(x.Sent, a, b), timeCheck(lo, a, b), timeCheck(hi, a, b),
-		require(api.ErrOrder, func() bool { return x.Sent <= lo && lo <= hi }),
-		require(api.ErrProof, func() bool { return lo == x.Sent || surelyNotArrived(a, b, x.Sent, lo) }),
-		require(api.ErrProof, func() bool { return surelyArrived(a, b, x.Sent, hi) }),
+		check.Require(api.ErrOrder, func() bool { return x.Sent <= lo && lo <= hi }),
+		check.Require(api.ErrProof, func() bool { return lo == x.Sent || surelyNotArrived(a, b, x.Sent, lo) }),
+		check.Require(api.ErrProof, func() bool { return surelyArrived(a, b, x.Sent, hi) }),
 	)
 }
 

@@ -3,6 +3,8 @@ package path
 import (
 	"math/bits"
 	"slices"
+
+	"cassegrain/number"
 )
 
 // square is a natural number below 2^128, as its upper and its lower half: squares of distances over a common denominator do not fit into 64 bits.
@@ -11,7 +13,7 @@ type square [2]uint64
 
 // squareOf returns the square of x.
 func squareOf(x int) square {
-	n := uint64(size(x))
+	n := uint64(number.Size(x))
 	hi, lo := bits.Mul64(n, n)
 	return square{hi, lo}
 }

@@ -6,6 +6,8 @@ import (
 	"strings"
 
 	"cassegrain/api"
+	"cassegrain/check"
+	"cassegrain/number"
 )
 
 // The maximum numbers of digits in the string of a track.
@@ -24,7 +26,7 @@ func components(v api.Vector) triple {
 
 // exceeds says whether a component is greater in size than the limit.
 func (t triple) exceeds(limit int) bool {
-	return slices.ContainsFunc(t[:], func(x int) bool { return !within(x, -limit, limit) })
+	return slices.ContainsFunc(t[:], func(x int) bool { return !number.Within(x, -limit, limit) })
 }
 
 // place is a position with whole numbers over a common denominator.
@@ -46,7 +48,7 @@ func CheckTrack(p api.PathTrack) (int, api.Errno) {
 			return i, e
 		}
 	}
-	if !within(p.Doubt, 0, api.MaxPathDoubt) {
+	if !number.Within(p.Doubt, 0, api.MaxPathDoubt) {
 		return 0, api.ErrRange
 	}
 	return 0, api.OK
@@ -56,7 +58,7 @@ func CheckTrack(p api.PathTrack) (int, api.Errno) {
 func checkKnot(knots []api.PathKnot, i int) api.Errno {
 	knot := knots[i]
 	at := components(api.Vector(knot.Position))
-	if !within(knot.Time, 0, api.MaxTick) || at.exceeds(api.MaxPathPosition) {
+	if !number.Within(knot.Time, 0, api.MaxTick) || at.exceeds(api.MaxPathPosition) {
 		return api.ErrRange
 	}
 	if i == 0 {
@@ -90,9 +92,9 @@ func trackCheck(p api.PathTrack) func() api.Errno {
 
 // timeCheck is the check that a time is one of each of these valid tracks.
 func timeCheck(time int, tracks ...api.PathTrack) func() api.Errno {
-	return require(api.ErrRange, func() bool {
+	return check.Require(api.ErrRange, func() bool {
 		return !slices.ContainsFunc(tracks, func(p api.PathTrack) bool {
-			return !within(time, firstTime(p), lastTime(p))
+			return !number.Within(time, firstTime(p), lastTime(p))
 		})
 	})
 }
@@ -123,28 +125,14 @@ func placeAt(p api.PathTrack, time int) place {
 
 // BoxAt returns the box of the true positions at a time, rounded down and up.
 func BoxAt(p api.PathTrack, time int) (api.PathBox, api.Errno) {
-	if e := firstError(trackCheck(p), timeCheck(time, p)); e != api.OK {
+	if e := check.First(trackCheck(p), timeCheck(time, p)); e != api.OK {
 		return api.PathBox{}, e
 	}
 	x := placeAt(p, time)
 	side := func(i int) api.Range {
-		return api.Range{Lo: floor(x.at[i], x.den) - p.Doubt, Hi: ceiling(x.at[i], x.den) + p.Doubt}
+		return api.Range{Lo: number.Floor(x.at[i], x.den) - p.Doubt, Hi: number.Ceiling(x.at[i], x.den) + p.Doubt}
 	}
 	return api.PathBox{X: side(0), Y: side(1), Z: side(2)}, api.OK
-}
-
-// floor returns num / den rounded down; den is above 0.
-func floor(num, den int) int {
-	n := num / den
-	if n*den > num {
-		n--
-	}
-	return n
-}
-
-// ceiling returns num / den rounded up; den is above 0.
-func ceiling(num, den int) int {
-	return -floor(-num, den)
 }
 
 // FormatTrack returns the string of a track.
@@ -178,7 +166,7 @@ func ParseTrack(s string) (api.PathTrack, api.Errno) {
 // readTrack reads the string of a track, which need not be valid.
 func readTrack(s string) (api.PathTrack, bool) {
 	parts := strings.Split(s, ";")
-	doubt, ok := readNatural(parts[0], timeDigits)
+	doubt, ok := number.ReadNatural(parts[0], timeDigits)
 	if !ok {
 		return api.PathTrack{}, false
 	}
@@ -199,36 +187,11 @@ func readKnot(s string) (api.PathKnot, bool) {
 	if len(words) != 1+len(at) {
 		return api.PathKnot{}, false
 	}
-	time, ok := readNatural(words[0], timeDigits)
+	time, ok := number.ReadNatural(words[0], timeDigits)
 	for i := range at {
-		x, fine := readWhole(words[1+i], coordinateDigits)
+		x, fine := number.ReadWhole(words[1+i], coordinateDigits)
 		at[i] = x
 		ok = ok && fine
 	}
 	return api.PathKnot{Time: time, Position: api.Point{X: at[0], Y: at[1], Z: at[2]}}, ok
-}
-
-// readWhole reads a whole number with at most so many digits.
-func readWhole(s string, digits int) (int, bool) {
-	unsigned, negative := strings.CutPrefix(s, "-")
-	n, ok := readNatural(unsigned, digits)
-	if !negative {
-		return n, ok
-	}
-	return -n, ok && n != 0 // "-0" is no number
-}
-
-// readNatural reads a number without a sign that has at most so many digits, few enough for an int.
-func readNatural(s string, digits int) (int, bool) {
-	if !within(len(s), 1, digits) || len(s) > 1 && s[0] == '0' {
-		return 0, false
-	}
-	n := 0
-	for i := range len(s) {
-		if !within(int(s[i]), '0', '9') {
-			return 0, false
-		}
-		n = 10*n + int(s[i]-'0')
-	}
-	return n, true
 }

@@ -1,6 +1,10 @@
 package path
 
-import "cassegrain/api"
+import (
+	"cassegrain/api"
+	"cassegrain/check"
+	"cassegrain/number"
+)
 
 // CheckSite checks a site, and returns the index of the cone that an error concerns.
 func CheckSite(s api.PathSite) (int, api.Errno) {
@@ -22,7 +26,7 @@ func checkCone(c api.PathCone) api.Errno {
 	if e := checkAxis(c.Axis); e != api.OK {
 		return e
 	}
-	if !within(c.Den, 1, api.MaxPathPart) || !within(c.Num, 0, c.Den) {
+	if !number.Within(c.Den, 1, api.MaxPathPart) || !number.Within(c.Num, 0, c.Den) {
 		return api.ErrRange
 	}
 	return api.OK
@@ -44,7 +48,7 @@ func viewCheck(v api.PathView) func() api.Errno {
 		_, e := CheckSite(v.Site)
 		return e
 	}
-	return func() api.Errno { return firstError(site, trackCheck(v.Station), trackCheck(v.Probe)) }
+	return func() api.Errno { return check.First(site, trackCheck(v.Station), trackCheck(v.Probe)) }
 }
 
 // along returns the enclosure of the product with an axis, over the denominator.
@@ -52,7 +56,7 @@ func (v between) along(axis triple) api.Range {
 	product, doubt := 0, 0
 	for i, x := range axis {
 		product += x * v.at[i]
-		doubt += size(x) * v.doubt
+		doubt += number.Size(x) * v.doubt
 	}
 	return api.Range{Lo: product - doubt, Hi: product + doubt}
 }
@@ -87,7 +91,7 @@ func answerAt(v api.PathView, time int) int {
 
 // VisibleAt answers whether the station sees the probe at a time.
 func VisibleAt(v api.PathView, time int) (int, api.Errno) {
-	if e := firstError(viewCheck(v), timeCheck(time, v.Station, v.Probe)); e != api.OK {
+	if e := check.First(viewCheck(v), timeCheck(time, v.Station, v.Probe)); e != api.OK {
 		return 0, e
 	}
 	return answerAt(v, time), api.OK
@@ -96,10 +100,10 @@ func VisibleAt(v api.PathView, time int) (int, api.Errno) {
 // Windows returns the maximal ranges of neighbouring times of a grid with the same answer.
 func Windows(v api.PathView, g api.PathGrid) ([]api.PathWindow, api.Errno) {
 	timeAt := func(i int) int { return g.From + i*g.Step }
-	e := firstError(
+	e := check.First(
 		viewCheck(v),
-		require(api.ErrRange, func() bool {
-			return within(g.Step, 1, api.MaxPathPiece) && within(g.Count, 1, api.MaxPathGrid)
+		check.Require(api.ErrRange, func() bool {
+			return number.Within(g.Step, 1, api.MaxPathPiece) && number.Within(g.Count, 1, api.MaxPathGrid)
 		}),
 		timeCheck(timeAt(0), v.Station, v.Probe),
 		timeCheck(timeAt(g.Count-1), v.Station, v.Probe),

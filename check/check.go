@@ -1,0 +1,36 @@
+// Package check finds the first of several errors. All chapters use it.
+package check
+
+import "cassegrain/api"
+
+// First makes the checks in their order and returns the first error. A check is a closure because it may rely on all those before it.
+func First(checks ...func() api.Errno) api.Errno {
+	for _, check := range checks {
+		if e := check(); e != api.OK {
+			return e
+		}
+	}
+	return api.OK
+}
+
+// Require returns a check that fails with e unless the condition holds.
+func Require(e api.Errno, condition func() bool) func() api.Errno {
+	return func() api.Errno {
+		if condition() {
+			return api.OK
+		}
+		return e
+	}
+}
+
+// Each returns a check of all items, in their order.
+func Each[T any](items []T, check func(T) api.Errno) func() api.Errno {
+	return func() api.Errno {
+		for _, item := range items {
+			if e := check(item); e != api.OK {
+				return e
+			}
+		}
+		return api.OK
+	}
+}

@@ -1,0 +1,49 @@
+package check_test
+
+import (
+	"testing"
+
+	"cassegrain/api"
+	"cassegrain/check"
+)
+
+func TestFirst(t *testing.T) {
+	fails := func(e api.Errno) func() api.Errno { return func() api.Errno { return e } }
+	never := func() api.Errno {
+		t.Error("a check after the first error is made")
+		return api.OK
+	}
+	if e := check.First(); e != api.OK {
+		t.Error(e)
+	}
+	if e := check.First(fails(api.OK), fails(api.OK)); e != api.OK {
+		t.Error(e)
+	}
+	if e := check.First(fails(api.OK), fails(api.ErrOrder), never); e != api.ErrOrder {
+		t.Error(e)
+	}
+}
+
+func TestRequire(t *testing.T) {
+	for condition, want := range map[bool]api.Errno{true: api.OK, false: api.ErrGap} {
+		if e := check.Require(api.ErrGap, func() bool { return condition })(); e != want {
+			t.Error(condition, e)
+		}
+	}
+}
+
+func TestEach(t *testing.T) {
+	itself := func(e api.Errno) api.Errno { return e }
+	for _, c := range []struct {
+		items []api.Errno
+		want  api.Errno
+	}{
+		{nil, api.OK},
+		{[]api.Errno{api.OK, api.OK}, api.OK},
+		{[]api.Errno{api.OK, api.ErrGap, api.ErrForm}, api.ErrGap},
+	} {
+		if e := check.Each(c.items, itself)(); e != c.want {
+			t.Error(c.items, e)
+		}
+	}
+}
