@@ -1,7 +1,10 @@
 // Package check finds the first of several errors. All chapters use it.
 package check
 
-import "cassegrain/api"
+import (
+	"cassegrain/api"
+	"cassegrain/number"
+)
 
 // First makes the checks in their order and returns the first error. A check is a closure because it may rely on all those before it.
 func First(checks ...func() api.Errno) api.Errno {
@@ -32,5 +35,17 @@ func Each[T any](items []T, check func(T) api.Errno) func() api.Errno {
 			}
 		}
 		return api.OK
+	}
+}
+
+// Range returns the check that a number is from lo to hi.
+func Range(n, lo, hi int) func() api.Errno {
+	return Require(api.ErrRange, func() bool { return number.Within(n, lo, hi) })
+}
+
+// Parts returns what checks that no part of a whole complex number is greater in size than the limit.
+func Parts(limit int) func(api.Gauss) api.Errno {
+	return func(g api.Gauss) api.Errno {
+		return First(Range(g.Re, -limit, limit), Range(g.Im, -limit, limit))
 	}
 }

@@ -1,6 +1,7 @@
 package check_test
 
 import (
+	"math"
 	"testing"
 
 	"cassegrain/api"
@@ -44,6 +45,35 @@ func TestEach(t *testing.T) {
 	} {
 		if e := check.Each(c.items, itself)(); e != c.want {
 			t.Error(c.items, e)
+		}
+	}
+}
+
+func TestRange(t *testing.T) {
+	for n, want := range map[int]api.Errno{
+		math.MinInt: api.ErrRange, -3: api.ErrRange, -2: api.OK, 0: api.OK, 5: api.OK, 6: api.ErrRange, math.MaxInt: api.ErrRange,
+	} {
+		if e := check.Range(n, -2, 5)(); e != want {
+			t.Error(n, e)
+		}
+	}
+}
+
+func TestParts(t *testing.T) {
+	for g, want := range map[api.Gauss]api.Errno{
+		{}:                 api.OK,
+		{Re: 3, Im: -3}:    api.OK,
+		{Re: -3, Im: 3}:    api.OK,
+		{Re: 4}:            api.ErrRange,
+		{Re: -4}:           api.ErrRange,
+		{Im: 4}:            api.ErrRange,
+		{Im: -4}:           api.ErrRange,
+		{Re: math.MinInt}:  api.ErrRange,
+		{Im: math.MaxInt}:  api.ErrRange,
+		{Re: -3, Im: 1000}: api.ErrRange,
+	} {
+		if e := check.Parts(3)(g); e != want {
+			t.Error(g, e)
 		}
 	}
 }

@@ -1,7 +1,10 @@
 // Package number computes with whole numbers, and reads them from strings. All chapters use it.
 package number
 
-import "strings"
+import (
+	"strconv"
+	"strings"
+)
 
 // Within says whether x is from lo to hi.
 func Within(x, lo, hi int) bool {
@@ -55,4 +58,37 @@ func ReadNatural(s string, digits int) (int, bool) {
 		n = 10*n + int(s[i]-'0')
 	}
 	return n, true
+}
+
+// Words describes strings of whole numbers that are separated by single blanks: how many there are, how many of them, from the first one on, have no sign, and how many digits a number has at most.
+type Words struct{ Count, Unsigned, Digits int }
+
+// Read reads the numbers of such a string.
+func (w Words) Read(s string) ([]int, bool) {
+	words := strings.SplitN(s, " ", w.Count+1)
+	if len(words) != w.Count {
+		return nil, false
+	}
+	numbers := make([]int, w.Count)
+	for i, word := range words {
+		read := ReadWhole
+		if i < w.Unsigned {
+			read = ReadNatural
+		}
+		n, ok := read(word, w.Digits)
+		if !ok {
+			return nil, false
+		}
+		numbers[i] = n
+	}
+	return numbers, true
+}
+
+// Join returns the string of numbers that are separated by single blanks.
+func Join(numbers ...int) string {
+	words := make([]string, len(numbers))
+	for i, n := range numbers {
+		words[i] = strconv.Itoa(n)
+	}
+	return strings.Join(words, " ")
 }

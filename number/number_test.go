@@ -1,6 +1,7 @@
 package number_test
 
 import (
+	"slices"
 	"testing"
 
 	"cassegrain/number"
@@ -72,6 +73,44 @@ func TestRead(t *testing.T) {
 		n, ok = number.ReadNatural(s, 3)
 		if ok != want.natural || ok && n != want.n {
 			t.Error(s, n, ok)
+		}
+	}
+}
+
+func TestWords(t *testing.T) {
+	words := number.Words{Count: 3, Unsigned: 1, Digits: 2}
+	for s, want := range map[string][]int{
+		"1 2 3":     {1, 2, 3},
+		"99 -99 -9": {99, -99, -9},
+		"0 0 0":     {0, 0, 0},
+		"-1 2 3":    nil,
+		"1 2":       nil,
+		"1 2 3 4":   nil,
+		"1 2 3 ":    nil,
+		" 1 2 3":    nil,
+		"1  2 3":    nil,
+		"1 2  3":    nil,
+		"1 2 100":   nil,
+		"100 2 3":   nil,
+		"1 -0 3":    nil,
+		"1 2 x":     nil,
+		"1\t2\t3":   nil,
+		"":          nil,
+	} {
+		numbers, ok := words.Read(s)
+		if ok != (want != nil) || !slices.Equal(numbers, want) {
+			t.Errorf("%q: %v %v", s, numbers, ok)
+		}
+	}
+	if numbers, ok := (number.Words{Count: 2, Unsigned: 2, Digits: 1}).Read("1 -2"); ok {
+		t.Error(numbers)
+	}
+}
+
+func TestJoin(t *testing.T) {
+	for want, numbers := range map[string][]int{"": nil, "7": {7}, "3 -4 0": {3, -4, 0}} {
+		if s := number.Join(numbers...); s != want {
+			t.Errorf("%v: %q", numbers, s)
 		}
 	}
 }

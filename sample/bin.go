@@ -8,7 +8,7 @@ import (
 
 // quarterCheck is the check of a quarter.
 func quarterCheck(quarter int) func() api.Errno {
-	return rangeCheck(quarter, 0, 3)
+	return check.Range(quarter, 0, 3)
 }
 
 // bin returns the bin of samples at a quarter, which may be negative.
@@ -42,7 +42,7 @@ func BinsOf(x []api.Gauss) ([4]api.Gauss, api.Errno) {
 
 // Restored returns the four samples with these bins. Four times a sample is the bin of the bins at the negative of its index.
 func Restored(s [4]api.Gauss) ([4]api.Gauss, api.Errno) {
-	if e := check.Each(s[:], gaussCheck(4*api.MaxSample))(); e != api.OK {
+	if e := check.Each(s[:], check.Parts(4*api.MaxSample))(); e != api.OK {
 		return [4]api.Gauss{}, e
 	}
 	var x [4]api.Gauss
@@ -53,7 +53,7 @@ func Restored(s [4]api.Gauss) ([4]api.Gauss, api.Errno) {
 		}
 		x[n] = api.Gauss{Re: fourfold.Re / 4, Im: fourfold.Im / 4}
 	}
-	if e := check.Each(x[:], gaussCheck(api.MaxSample))(); e != api.OK {
+	if e := check.Each(x[:], check.Parts(api.MaxSample))(); e != api.OK {
 		return [4]api.Gauss{}, e
 	}
 	return x, api.OK
@@ -61,7 +61,7 @@ func Restored(s [4]api.Gauss) ([4]api.Gauss, api.Errno) {
 
 // MinimumNorm returns the norm that a bin of so many samples has at least, if each has at least the amplitude, and after mixing points at most an eighth of a turn away from the positive real axis.
 func MinimumNorm(amplitude, count int) (int, api.Errno) {
-	e := check.First(rangeCheck(amplitude, 0, api.MaxSample), rangeCheck(count, 0, api.MaxSampleStream))
+	e := check.First(check.Range(amplitude, 0, api.MaxSample), check.Range(count, 0, api.MaxSampleStream))
 	if e != api.OK {
 		return 0, e
 	}

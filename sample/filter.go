@@ -12,8 +12,8 @@ func CheckFilter(f api.SampleFilter) api.Errno {
 	return check.First(
 		check.Require(api.ErrShape, func() bool { return len(f.Coefficients) > 0 }),
 		check.Require(api.ErrLarge, func() bool { return len(f.Coefficients) <= api.MaxSampleTaps }),
-		check.Each(f.Coefficients, func(c int) api.Errno { return rangeCheck(c, -weight, weight)() }),
-		rangeCheck(f.Den, 1, weight),
+		check.Each(f.Coefficients, func(c int) api.Errno { return check.Range(c, -weight, weight)() }),
+		check.Range(f.Den, 1, weight),
 	)
 }
 
@@ -39,7 +39,7 @@ func Filtered(f api.SampleFilter, x []api.Gauss) ([]api.Gauss, api.Errno) {
 
 // Decimated returns the outputs of a filter whose indices are multiples of a number.
 func Decimated(f api.SampleFilter, x []api.Gauss, by int) ([]api.Gauss, api.Errno) {
-	e := check.First(filterCheck(f), samplesCheck(x), rangeCheck(by, 1, api.MaxSampleStream))
+	e := check.First(filterCheck(f), samplesCheck(x), check.Range(by, 1, api.MaxSampleStream))
 	if e != api.OK {
 		return nil, e
 	}

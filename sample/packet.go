@@ -2,8 +2,6 @@ package sample
 
 import (
 	"slices"
-	"strconv"
-	"strings"
 
 	"cassegrain/api"
 	"cassegrain/check"
@@ -20,15 +18,15 @@ const (
 // CheckPacket checks a packet.
 func CheckPacket(p api.SamplePacket) api.Errno {
 	return check.First(
-		rangeCheck(p.Counter, 0, api.SampleModulus-1),
-		rangeCheck(p.Gain, 1, api.MaxSampleGain),
-		check.Each(p.Samples[:], gaussCheck(api.MaxSample)),
+		check.Range(p.Counter, 0, api.SampleModulus-1),
+		check.Range(p.Gain, 1, api.MaxSampleGain),
+		check.Each(p.Samples[:], check.Parts(api.MaxSample)),
 	)
 }
 
 // Unwrapped returns the full counter closest to near of a packet with this counter.
 func Unwrapped(near, counter int) (int, api.Errno) {
-	e := check.First(rangeCheck(near, 0, api.MaxSampleCounter), rangeCheck(counter, 0, api.SampleModulus-1))
+	e := check.First(check.Range(near, 0, api.MaxSampleCounter), check.Range(counter, 0, api.SampleModulus-1))
 	if e != api.OK {
 		return 0, e
 	}
@@ -179,11 +177,11 @@ func Assembled(l []api.SamplePacket) (api.SampleStream, api.Errno) {
 
 // FormatPacket returns the string of a packet.
 func FormatPacket(p api.SamplePacket) string {
-	words := []string{strconv.Itoa(p.Counter), strconv.Itoa(p.Gain)}
+	numbers := []int{p.Counter, p.Gain}
 	for _, g := range p.Samples {
-		words = append(words, strconv.Itoa(g.Re), strconv.Itoa(g.Im))
+		numbers = append(numbers, g.Re, g.Im)
 	}
-	return strings.Join(words, " ")
+	return number.Join(numbers...)
 }
 
 // ParsePacket returns the packet with this string.
@@ -200,21 +198,10 @@ func ParsePacket(s string) (api.SamplePacket, api.Errno) {
 
 // readPacket reads the string of a packet, which need not be valid.
 func readPacket(s string) (api.SamplePacket, bool) {
-	words := strings.SplitN(s, " ", packetNumbers+1)
-	if len(words) != packetNumbers {
+	words := number.Words{Count: packetNumbers, Unsigned: unsignedBefore, Digits: packetDigits}
+	numbers, ok := words.Read(s)
+	if !ok {
 		return api.SamplePacket{}, false
-	}
-	var numbers [packetNumbers]int
-	for i, word := range words {
-		read := number.ReadWhole
-		if i < unsignedBefore {
-			read = number.ReadNatural
-		}
-		n, ok := read(word, packetDigits)
-		if !ok {
-			return api.SamplePacket{}, false
-		}
-		numbers[i] = n
 	}
 	p := api.SamplePacket{Counter: numbers[0], Gain: numbers[1]}
 	for i := range p.Samples {

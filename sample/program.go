@@ -12,9 +12,9 @@ const quarterTurn = api.PhaseTurn / 4
 // CheckProgram checks a program.
 func CheckProgram(p api.SampleProgram) api.Errno {
 	return check.First(
-		rangeCheck(p.Phase, 0, api.PhaseTurn-1),
-		rangeCheck(p.Increment, -api.PhaseTurn, api.PhaseTurn),
-		rangeCheck(p.Change, -api.PhaseTurn, api.PhaseTurn),
+		check.Range(p.Phase, 0, api.PhaseTurn-1),
+		check.Range(p.Increment, -api.PhaseTurn, api.PhaseTurn),
+		check.Range(p.Change, -api.PhaseTurn, api.PhaseTurn),
 	)
 }
 
@@ -25,7 +25,7 @@ func programCheck(p api.SampleProgram) func() api.Errno {
 
 // indexCheck is the check of an index.
 func indexCheck(index int) func() api.Errno {
-	return rangeCheck(index, 0, api.MaxSampleIndex)
+	return check.Range(index, 0, api.MaxSampleIndex)
 }
 
 // phaseAt returns the phase of a valid program at a valid index.
@@ -48,7 +48,7 @@ func PhaseAt(p api.SampleProgram, index int) (int, api.Errno) {
 
 // TurnsOf returns the turns at the indices from 0 to count - 1.
 func TurnsOf(p api.SampleProgram, count int) ([]int, api.Errno) {
-	if e := check.First(programCheck(p), rangeCheck(count, 0, api.MaxSampleStream)); e != api.OK {
+	if e := check.First(programCheck(p), check.Range(count, 0, api.MaxSampleStream)); e != api.OK {
 		return nil, e
 	}
 	turns := make([]int, count)
