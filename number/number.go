@@ -1,4 +1,4 @@
-// Package number computes with whole numbers, and reads them from strings. All chapters use it.
+// Package number computes with whole numbers, and reads and writes them. All chapters use it.
 package number
 
 import (
