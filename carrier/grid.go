@@ -5,6 +5,7 @@ import (
 
 	"cassegrain/api"
 	"cassegrain/check"
+	"cassegrain/number"
 )
 
 // CheckGrid checks a grid, and returns the number of its hypotheses.
@@ -59,7 +60,7 @@ func strongest(g api.CarrierGrid, samples []api.Gauss) (api.CarrierHypothesis, i
 	var best api.CarrierHypothesis
 	most := -1 // less than any power
 	for h := range hypotheses(g) {
-		if p := power(correlation(h, samples)); p > most {
+		if p := number.Power(correlation(h, samples)); p > most {
 			best, most = h, p
 		}
 	}

@@ -6,25 +6,10 @@ import (
 	"cassegrain/number"
 )
 
-// complexOf returns a whole complex number in single precision. All numbers that this package computes with have parts of at most MaxCarrierSamples MaxSample in size, which is far below 2^24, so that they and their sums are exact.
-func complexOf(g api.Gauss) complex64 {
-	return complex(float32(g.Re), float32(g.Im))
-}
-
-// gaussOf returns a complex number whose parts are whole.
-func gaussOf(z complex64) api.Gauss {
-	return api.Gauss{Re: int(real(z)), Im: int(imag(z))}
-}
-
 // quarterTurns returns i to the power n, which may be negative.
 func quarterTurns(n int) complex64 {
 	powers := [4]complex64{1, 1i, -1, -1i}
 	return powers[number.Modulo(n, len(powers))]
-}
-
-// power returns the square of the size of a whole complex number.
-func power(g api.Gauss) int {
-	return g.Re*g.Re + g.Im*g.Im
 }
 
 // CheckHypothesis checks a hypothesis.
@@ -51,18 +36,18 @@ func quarterAt(h api.CarrierHypothesis, n int) int {
 func replica(h api.CarrierHypothesis, n int) []api.Gauss {
 	samples := make([]api.Gauss, n)
 	for at := range samples {
-		samples[at] = gaussOf(quarterTurns(quarterAt(h, at)))
+		samples[at] = number.Gauss(quarterTurns(quarterAt(h, at)))
 	}
 	return samples
 }
 
-// correlation returns the correlation of valid samples with a valid hypothesis.
+// correlation returns the correlation of valid samples with a valid hypothesis. Its parts, and those of all sums before it, are at most MaxCarrierSamples MaxSample in size, which is far below 2^24.
 func correlation(h api.CarrierHypothesis, samples []api.Gauss) api.Gauss {
 	var sum complex64
 	for n, g := range samples {
-		sum += complexOf(g) * quarterTurns(-quarterAt(h, n))
+		sum += number.Single(g) * quarterTurns(-quarterAt(h, n))
 	}
-	return gaussOf(sum)
+	return number.Gauss(sum)
 }
 
 // Replica returns the first n samples of the replica.

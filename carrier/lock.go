@@ -12,8 +12,7 @@ func LockOf(r api.CarrierLock, errors []int) ([]bool, api.Errno) {
 		check.Range(r.Limit, 0, halfTurn),
 		check.Range(r.Window, 1, api.MaxCarrierSamples),
 		check.Range(r.Need, 1, r.Window),
-		check.Require(api.ErrLarge, func() bool { return len(errors) <= api.MaxCarrierSamples }),
-		check.Each(errors, func(n int) api.Errno { return turnCheck(n)() }),
+		check.AtMost(api.MaxCarrierSamples, errors, check.Numbers(-halfTurn, halfTurn-1)),
 	)
 	if e != api.OK {
 		return nil, e

@@ -96,7 +96,7 @@ func SlipsOf(l api.CarrierLoop, phases, truth []int) ([]int, api.Errno) {
 		loopCheck(l),
 		phasesCheck(phases),
 		check.Require(api.ErrShape, func() bool { return len(truth) == len(phases) }),
-		check.Each(truth, func(total int) api.Errno { return check.Range(total, -api.MaxTick, api.MaxTick)() }),
+		check.Each(truth, check.Numbers(-api.MaxTick, api.MaxTick)),
 	)
 	if e != api.OK {
 		return nil, e

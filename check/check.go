@@ -38,9 +38,24 @@ func Each[T any](items []T, check func(T) api.Errno) func() api.Errno {
 	}
 }
 
+// AtMost returns a check that there are no more items than the limit, and then of all items, in their order.
+func AtMost[T any](limit int, items []T, check func(T) api.Errno) func() api.Errno {
+	return func() api.Errno {
+		return First(
+			Require(api.ErrLarge, func() bool { return len(items) <= limit }),
+			Each(items, check),
+		)
+	}
+}
+
 // Range returns the check that a number is from lo to hi.
 func Range(n, lo, hi int) func() api.Errno {
 	return Require(api.ErrRange, func() bool { return number.Within(n, lo, hi) })
+}
+
+// Numbers returns what checks that a number is from lo to hi.
+func Numbers(lo, hi int) func(int) api.Errno {
+	return func(n int) api.Errno { return Range(n, lo, hi)() }
 }
 
 // Parts returns what checks that no part of a whole complex number is greater in size than the limit.

@@ -49,6 +49,33 @@ func TestEach(t *testing.T) {
 	}
 }
 
+func TestAtMost(t *testing.T) {
+	itself := func(e api.Errno) api.Errno { return e }
+	for _, c := range []struct {
+		items []api.Errno
+		want  api.Errno
+	}{
+		{nil, api.OK},
+		{[]api.Errno{api.OK, api.OK}, api.OK},
+		{[]api.Errno{api.OK, api.ErrForm}, api.ErrForm},
+		{[]api.Errno{api.ErrGap, api.ErrForm}, api.ErrGap},
+		{[]api.Errno{api.OK, api.OK, api.OK}, api.ErrLarge},
+		{[]api.Errno{api.ErrGap, api.OK, api.OK}, api.ErrLarge},
+	} {
+		if e := check.AtMost(2, c.items, itself)(); e != c.want {
+			t.Error(c.items, e)
+		}
+	}
+}
+
+func TestNumbers(t *testing.T) {
+	for n, want := range map[int]api.Errno{math.MinInt: api.ErrRange, -3: api.ErrRange, -2: api.OK, 5: api.OK, 6: api.ErrRange} {
+		if e := check.Numbers(-2, 5)(n); e != want {
+			t.Error(n, e)
+		}
+	}
+}
+
 func TestRange(t *testing.T) {
 	for n, want := range map[int]api.Errno{
 		math.MinInt: api.ErrRange, -3: api.ErrRange, -2: api.OK, 0: api.OK, 5: api.OK, 6: api.ErrRange, math.MaxInt: api.ErrRange,

@@ -31,10 +31,7 @@ func CheckDrive(d api.PathDrive) api.Errno {
 func checkTargets(d api.PathDrive, targets []int) api.Errno {
 	return check.First(
 		func() api.Errno { return CheckDrive(d) },
-		check.Require(api.ErrLarge, func() bool { return len(targets) <= api.MaxPathTargets }),
-		check.Require(api.ErrRange, func() bool {
-			return !slices.ContainsFunc(targets, func(t int) bool { return !number.Within(t, 0, d.Turn-1) })
-		}),
+		check.AtMost(api.MaxPathTargets, targets, check.Numbers(0, d.Turn-1)),
 	)
 }
 

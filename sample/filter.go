@@ -11,8 +11,7 @@ func CheckFilter(f api.SampleFilter) api.Errno {
 	const weight = api.MaxSampleWeight
 	return check.First(
 		check.Require(api.ErrShape, func() bool { return len(f.Coefficients) > 0 }),
-		check.Require(api.ErrLarge, func() bool { return len(f.Coefficients) <= api.MaxSampleTaps }),
-		check.Each(f.Coefficients, func(c int) api.Errno { return check.Range(c, -weight, weight)() }),
+		check.AtMost(api.MaxSampleTaps, f.Coefficients, check.Numbers(-weight, weight)),
 		check.Range(f.Den, 1, weight),
 	)
 }

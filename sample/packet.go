@@ -65,8 +65,7 @@ type reception struct {
 func received(l []api.SamplePacket) (reception, api.Errno) {
 	e := check.First(
 		check.Require(api.ErrShape, func() bool { return len(l) > 0 }),
-		check.Require(api.ErrLarge, func() bool { return len(l) <= api.MaxSamplePackets }),
-		check.Each(l, CheckPacket),
+		check.AtMost(api.MaxSamplePackets, l, CheckPacket),
 	)
 	if e != api.OK {
 		return reception{}, e
