@@ -82,14 +82,5 @@ func ShareFound(g api.CarrierGrid, h api.CarrierHypothesis, n int) (api.Frac, ap
 		return api.Frac{}, e
 	}
 	_, most := strongest(g, replica(h, n))
-	divisor := commonDivisor(most, n*n)
-	return api.Frac{Num: most / divisor, Den: n * n / divisor}, api.OK
-}
-
-// commonDivisor returns the greatest common divisor of two numbers from 0 on that are not both 0.
-func commonDivisor(a, b int) int {
-	for b != 0 {
-		a, b = b, a%b
-	}
-	return a
+	return number.Lowest(most, n*n), api.OK
 }

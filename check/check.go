@@ -26,15 +26,21 @@ func Require(e api.Errno, condition func() bool) func() api.Errno {
 	}
 }
 
+// Indexed checks all items, in their order, and returns the index of the first one with an error, and this error. Without an error the index is 0.
+func Indexed[T any](items []T, check func(i int, item T) api.Errno) (int, api.Errno) {
+	for i, item := range items {
+		if e := check(i, item); e != api.OK {
+			return i, e
+		}
+	}
+	return 0, api.OK
+}
+
 // Each returns a check of all items, in their order.
 func Each[T any](items []T, check func(T) api.Errno) func() api.Errno {
 	return func() api.Errno {
-		for _, item := range items {
-			if e := check(item); e != api.OK {
-				return e
-			}
-		}
-		return api.OK
+		_, e := Indexed(items, func(_ int, item T) api.Errno { return check(item) })
+		return e
 	}
 }
 

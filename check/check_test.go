@@ -33,6 +33,31 @@ func TestRequire(t *testing.T) {
 	}
 }
 
+func TestIndexed(t *testing.T) {
+	for _, c := range []struct {
+		items []api.Errno
+		index int
+		want  api.Errno
+	}{
+		{nil, 0, api.OK},
+		{[]api.Errno{api.OK, api.OK}, 0, api.OK},
+		{[]api.Errno{api.ErrGap, api.ErrForm}, 0, api.ErrGap},
+		{[]api.Errno{api.OK, api.OK, api.ErrForm, api.ErrGap}, 2, api.ErrForm},
+	} {
+		next := 0
+		index, e := check.Indexed(c.items, func(i int, item api.Errno) api.Errno {
+			if i != next || item != c.items[i] {
+				t.Error(c.items, i, item)
+			}
+			next++
+			return item
+		})
+		if index != c.index || e != c.want {
+			t.Error(c.items, index, e)
+		}
+	}
+}
+
 func TestEach(t *testing.T) {
 	itself := func(e api.Errno) api.Errno { return e }
 	for _, c := range []struct {

@@ -43,10 +43,8 @@ func CheckTrack(p api.PathTrack) (int, api.Errno) {
 	if len(p.Knots) > api.MaxPathKnots {
 		return 0, api.ErrLarge
 	}
-	for i := range p.Knots {
-		if e := checkKnot(p.Knots, i); e != api.OK {
-			return i, e
-		}
+	if i, e := check.Indexed(p.Knots, func(i int, _ api.PathKnot) api.Errno { return checkKnot(p.Knots, i) }); e != api.OK {
+		return i, e
 	}
 	if !number.Within(p.Doubt, 0, api.MaxPathDoubt) {
 		return 0, api.ErrRange
