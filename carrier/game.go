@@ -22,8 +22,8 @@ func CheckClass(c api.CarrierClass) api.Errno {
 		turnCheck(c.Steps.Lo),
 		turnCheck(c.Steps.Hi),
 		check.Range(c.Noise, 0, api.MaxCarrierNoise),
-		orderCheck(c.Start),
-		orderCheck(c.Steps),
+		check.Ordered(c.Start),
+		check.Ordered(c.Steps),
 		check.Require(api.ErrLarge, func() bool { return c.Steps.Hi-c.Steps.Lo < api.MaxCarrierSteps }),
 	)
 }

@@ -14,11 +14,10 @@ func CheckGrid(g api.CarrierGrid) (int, api.Errno) {
 	e := check.First(
 		turnCheck(g.Frequencies.Lo),
 		turnCheck(g.Frequencies.Hi),
-		check.Range(g.Rates.Lo, -rate, rate),
-		check.Range(g.Rates.Hi, -rate, rate),
+		check.Ends(g.Rates, -rate, rate),
 		check.Range(g.Step, 1, halfTurn),
-		orderCheck(g.Frequencies),
-		orderCheck(g.Rates),
+		check.Ordered(g.Frequencies),
+		check.Ordered(g.Rates),
 		check.Require(api.ErrLarge, func() bool { return gridSize(g) <= api.MaxCarrierGrid }),
 	)
 	if e != api.OK {

@@ -113,7 +113,7 @@ func checkRows(rows []api.CarrierRow) api.Errno {
 			turnCheck(row.Frequency),
 			turnCheck(row.Deviations.Lo),
 			turnCheck(row.Deviations.Hi),
-			orderCheck(row.Deviations),
+			check.Ordered(row.Deviations),
 			check.Require(api.ErrOrder, func() bool { return i == 0 || rows[i-1].Frequency < row.Frequency }),
 		)
 		if e != api.OK {

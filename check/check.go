@@ -59,6 +59,16 @@ func Range(n, lo, hi int) func() api.Errno {
 	return Require(api.ErrRange, func() bool { return number.Within(n, lo, hi) })
 }
 
+// Ends returns the check that both ends of a range are from lo to hi.
+func Ends(r api.Range, lo, hi int) func() api.Errno {
+	return func() api.Errno { return First(Range(r.Lo, lo, hi), Range(r.Hi, lo, hi)) }
+}
+
+// Ordered returns the check that the ends of a range are in order.
+func Ordered(r api.Range) func() api.Errno {
+	return Require(api.ErrOrder, func() bool { return r.Lo <= r.Hi })
+}
+
 // Numbers returns what checks that a number is from lo to hi.
 func Numbers(lo, hi int) func(int) api.Errno {
 	return func(n int) api.Errno { return Range(n, lo, hi)() }

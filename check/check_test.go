@@ -111,6 +111,40 @@ func TestRange(t *testing.T) {
 	}
 }
 
+func TestEnds(t *testing.T) {
+	for r, want := range map[api.Range]api.Errno{
+		{}:                                 api.OK,
+		{Lo: -2, Hi: 5}:                    api.OK,
+		{Lo: 5, Hi: -2}:                    api.OK,
+		{Lo: -3, Hi: 5}:                    api.ErrRange,
+		{Lo: -2, Hi: 6}:                    api.ErrRange,
+		{Lo: 6, Hi: -2}:                    api.ErrRange,
+		{Lo: 5, Hi: -3}:                    api.ErrRange,
+		{Lo: math.MinInt}:                  api.ErrRange,
+		{Hi: math.MaxInt}:                  api.ErrRange,
+		{Lo: math.MaxInt, Hi: math.MinInt}: api.ErrRange,
+	} {
+		if e := check.Ends(r, -2, 5)(); e != want {
+			t.Error(r, e)
+		}
+	}
+}
+
+func TestOrdered(t *testing.T) {
+	for r, want := range map[api.Range]api.Errno{
+		{}:                                 api.OK,
+		{Lo: -2, Hi: 5}:                    api.OK,
+		{Lo: 5, Hi: 5}:                     api.OK,
+		{Lo: 6, Hi: 5}:                     api.ErrOrder,
+		{Lo: math.MinInt, Hi: math.MaxInt}: api.OK,
+		{Lo: math.MaxInt, Hi: math.MinInt}: api.ErrOrder,
+	} {
+		if e := check.Ordered(r)(); e != want {
+			t.Error(r, e)
+		}
+	}
+}
+
 func TestParts(t *testing.T) {
 	for g, want := range map[api.Gauss]api.Errno{
 		{}:                 api.OK,

@@ -20,9 +20,8 @@ func CheckPairs(l []api.FramePair) (int, api.Errno) {
 	return check.Indexed(l, func(i int, p api.FramePair) api.Errno {
 		return check.First(
 			check.Range(p.Count, 0, api.MaxFrameCount),
-			check.Range(p.Time.Lo, 0, api.MaxTick),
-			check.Range(p.Time.Hi, 0, api.MaxTick),
-			check.Require(api.ErrOrder, func() bool { return p.Time.Lo <= p.Time.Hi }),
+			check.Ends(p.Time, 0, api.MaxTick),
+			check.Ordered(p.Time),
 			check.Require(api.ErrOrder, func() bool { return i == 0 || l[i-1].Count < p.Count }),
 		)
 	})

@@ -22,7 +22,7 @@ func CheckDrive(d api.PathDrive) api.Errno {
 			return number.Within(d.Turn, 1, api.MaxPathTurn) && number.Within(d.Limits.Lo, -limit, limit) &&
 				number.Within(d.Limits.Hi, -limit, limit) && number.Within(d.Rate, 0, 2*limit)
 		}),
-		check.Require(api.ErrOrder, func() bool { return d.Limits.Lo <= d.Limits.Hi }),
+		check.Ordered(d.Limits),
 		check.Require(api.ErrRange, func() bool { return number.Within(d.Start, d.Limits.Lo, d.Limits.Hi) }),
 	)
 }
