@@ -80,3 +80,29 @@ func Parts(limit int) func(api.Gauss) api.Errno {
 		return First(Range(g.Re, -limit, limit), Range(g.Im, -limit, limit))
 	}
 }
+
+// Name returns the check that a string is a name.
+func Name(s string) func() api.Errno {
+	return Require(api.ErrName, func() bool { return isName(s) })
+}
+
+// isName says whether a string is a name: a letter, and then letters, digits and "-".
+func isName(s string) bool {
+	if !number.Within(len(s), 1, api.MaxName) || !isLetter(s[0]) {
+		return false
+	}
+	for i := range len(s) {
+		if c := s[i]; !isLetter(c) && !isDigit(c) && c != '-' {
+			return false
+		}
+	}
+	return true
+}
+
+func isLetter(c byte) bool {
+	return 'a' <= c && c <= 'z' || 'A' <= c && c <= 'Z'
+}
+
+func isDigit(c byte) bool {
+	return '0' <= c && c <= '9'
+}

@@ -2,6 +2,7 @@ package check_test
 
 import (
 	"math"
+	"strings"
 	"testing"
 
 	"cassegrain/api"
@@ -160,6 +161,22 @@ func TestParts(t *testing.T) {
 	} {
 		if e := check.Parts(3)(g); e != want {
 			t.Error(g, e)
+		}
+	}
+}
+
+func TestName(t *testing.T) {
+	for _, s := range []string{"a", "Z", "z9", "A-", "a--b", "x0-9Zz", "abcdefghijkl", "A12345678901"} {
+		if e := check.Name(s)(); e != api.OK {
+			t.Error(s, e)
+		}
+	}
+	for _, s := range []string{
+		"", "abcdefghijklm", strings.Repeat("a", 60000), "0", "9a", "-", "-a", " a", "a ", "a b", "a_b", "a.b", "a;b", "a,b", "a\n", "\x00", "a\x00",
+		"@a", "[a", "`a", "{a", "a@", "a[", "a`", "a{", "a/", "a:", "\u00e4", "a\u00e4", "a\u0661", "a\xff",
+	} {
+		if e := check.Name(s)(); e != api.ErrName {
+			t.Errorf("%q: %d", s, e)
 		}
 	}
 }
