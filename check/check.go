@@ -2,6 +2,8 @@
 package check
 
 import (
+	"slices"
+
 	"cassegrain/api"
 	"cassegrain/number"
 )
@@ -54,6 +56,11 @@ func AtMost[T any](limit int, items []T, check func(T) api.Errno) func() api.Err
 	}
 }
 
+// Exists says whether a slice has an item with this index.
+func Exists[T any](l []T, i int) bool {
+	return number.Within(i, 0, len(l)-1)
+}
+
 // Range returns the check that a number is from lo to hi.
 func Range(n, lo, hi int) func() api.Errno {
 	return Require(api.ErrRange, func() bool { return number.Within(n, lo, hi) })
@@ -84,6 +91,18 @@ func Parts(limit int) func(api.Gauss) api.Errno {
 // Name returns the check that a string is a name.
 func Name(s string) func() api.Errno {
 	return Require(api.ErrName, func() bool { return isName(s) })
+}
+
+// NewName returns the check that a string is a name, and that none of the earlier items has it.
+func NewName[T any](name string, earlier []T, nameOf func(T) string) func() api.Errno {
+	return func() api.Errno {
+		return First(
+			Name(name),
+			Require(api.ErrExists, func() bool {
+				return !slices.ContainsFunc(earlier, func(item T) bool { return nameOf(item) == name })
+			}),
+		)
+	}
 }
 
 // isName says whether a string is a name: a letter, and then letters, digits and "-".

@@ -180,3 +180,28 @@ func TestName(t *testing.T) {
 		}
 	}
 }
+
+func TestNewName(t *testing.T) {
+	type item struct{ name string }
+	nameOf := func(x item) string { return x.name }
+	earlier := []item{{"a"}, {"b-1"}, {"9"}}
+	for s, want := range map[string]api.Errno{"c": api.OK, "A": api.OK, "b-": api.OK, "a": api.ErrExists, "b-1": api.ErrExists, "9": api.ErrName, "": api.ErrName} {
+		if e := check.NewName(s, earlier, nameOf)(); e != want {
+			t.Errorf("%q: %d", s, e)
+		}
+	}
+	if e := check.NewName("a", nil, nameOf)(); e != api.OK {
+		t.Error(e)
+	}
+}
+
+func TestExists(t *testing.T) {
+	for i, want := range map[int]bool{math.MinInt: false, -1: false, 0: true, 2: true, 3: false, math.MaxInt: false} {
+		if check.Exists([]string{"a", "b", "c"}, i) != want {
+			t.Error(i)
+		}
+	}
+	if check.Exists([]int(nil), 0) {
+		t.Error("an item of an empty slice")
+	}
+}

@@ -53,7 +53,7 @@ func (t eventTable) candidates(yield func(api.CommandEvent) bool) {
 // CheckEvent checks an event.
 func CheckEvent(e api.CommandEvent) api.Errno {
 	kinds := eventKinds()
-	if !exists(kinds[:], e.Kind) {
+	if !check.Exists(kinds[:], e.Kind) {
 		return api.ErrKind
 	}
 	x := kinds[e.Kind]

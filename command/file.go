@@ -12,7 +12,7 @@ func CheckFile(m api.CommandModel, l []api.CommandAct) (int, api.Errno) {
 	}
 	return checkItems(l, 1, api.MaxCommandActs, func(_ int, a api.CommandAct) api.Errno {
 		return check.First(
-			check.Require(api.ErrKind, func() bool { return exists(m.Kinds, a.Kind) }),
+			check.Require(api.ErrKind, func() bool { return check.Exists(m.Kinds, a.Kind) }),
 			check.Ends(a.Window, 0, api.MaxTick),
 			check.Ordered(a.Window),
 		)

@@ -30,7 +30,7 @@ func (k link) pass(ticks int) (link, api.Errno) {
 
 func (k link) send(act int) (link, api.Errno) {
 	e := check.First(
-		check.Require(api.ErrMissing, func() bool { return exists(k.File, act) }),
+		check.Require(api.ErrMissing, func() bool { return check.Exists(k.File, act) }),
 		check.Require(api.ErrState, func() bool { return !k.Told }),
 		check.Require(api.ErrRefused, func() bool { return number.Within(act, k.Base, k.Base+k.Window-1) }),
 	)
@@ -122,7 +122,7 @@ func (k link) drop(i int) (link, api.Errno) {
 }
 
 func (k link) repeat(i int) (link, api.Errno) {
-	if !exists(k.Down, i) {
+	if !check.Exists(k.Down, i) {
 		return link{}, api.ErrMissing
 	}
 	return k.fly(k.Down[i])

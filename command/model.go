@@ -1,8 +1,6 @@
 package command
 
 import (
-	"slices"
-
 	"cassegrain/api"
 	"cassegrain/check"
 )
@@ -21,22 +19,10 @@ func CheckModel(m api.CommandModel) (api.CommandMark, api.Errno) {
 	return api.CommandMark{Part: api.CommandItself}, api.OK
 }
 
-// newName returns the check that this is a name, and that none of the earlier items has it.
-func newName[T any](name string, earlier []T, nameOf func(T) string) func() api.Errno {
-	return func() api.Errno {
-		return check.First(
-			check.Name(name),
-			check.Require(api.ErrExists, func() bool {
-				return !slices.ContainsFunc(earlier, func(item T) bool { return nameOf(item) == name })
-			}),
-		)
-	}
-}
-
 func checkModes(m api.CommandModel) (int, api.Errno) {
 	itself := func(name string) string { return name }
 	return checkItems(m.Modes, 1, api.MaxCommandModes, func(i int, name string) api.Errno {
-		return newName(name, m.Modes[:i], itself)()
+		return check.NewName(name, m.Modes[:i], itself)()
 	})
 }
 
@@ -44,7 +30,7 @@ func checkKinds(m api.CommandModel) (int, api.Errno) {
 	nameOf := func(k api.CommandKind) string { return k.Name }
 	return checkItems(m.Kinds, 1, api.MaxCommandKinds, func(i int, k api.CommandKind) api.Errno {
 		return check.First(
-			newName(k.Name, m.Kinds[:i], nameOf),
+			check.NewName(k.Name, m.Kinds[:i], nameOf),
 			check.Require(api.ErrMissing, func() bool { return anyOrExists(m.Modes, k.To) }),
 		)
 	})
@@ -54,9 +40,9 @@ func checkRules(m api.CommandModel) (int, api.Errno) {
 	nameOf := func(r api.CommandRule) string { return r.Name }
 	return checkItems(m.Rules, 0, api.MaxCommandRules, func(i int, r api.CommandRule) api.Errno {
 		return check.First(
-			newName(r.Name, m.Rules[:i], nameOf),
+			check.NewName(r.Name, m.Rules[:i], nameOf),
 			check.Require(api.ErrMissing, func() bool {
-				return exists(m.Kinds, r.Kind) && anyOrExists(m.Modes, r.Mode) && anyOrExists(m.Kinds, r.After)
+				return check.Exists(m.Kinds, r.Kind) && anyOrExists(m.Modes, r.Mode) && anyOrExists(m.Kinds, r.After)
 			}),
 			check.Range(r.Gap, 1, api.MaxCommandGap),
 			check.Require(api.ErrForm, func() bool { return r.After != api.CommandAny || r.Gap == 1 }),

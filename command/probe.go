@@ -86,13 +86,13 @@ func (p probe) times(l []api.CommandAct) ([]int, bool) {
 func ForbiddenBy(m api.CommandModel, x api.CommandMoment, kind int) (string, api.Errno) {
 	e := check.First(
 		modelCheck(m),
-		check.Require(api.ErrMissing, func() bool { return exists(m.Modes, x.Mode) }),
+		check.Require(api.ErrMissing, func() bool { return check.Exists(m.Modes, x.Mode) }),
 		check.Range(x.At, 0, api.MaxTick),
 		check.Require(api.ErrShape, func() bool { return len(x.Last) == len(m.Kinds) }),
 		check.Each(x.Last, func(last int) api.Errno {
 			return check.Require(api.ErrRange, func() bool { return last == api.CommandNever || number.Within(last, 0, x.At) })()
 		}),
-		check.Require(api.ErrKind, func() bool { return exists(m.Kinds, kind) }),
+		check.Require(api.ErrKind, func() bool { return check.Exists(m.Kinds, kind) }),
 	)
 	if e != api.OK {
 		return "", e

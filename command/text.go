@@ -5,6 +5,7 @@ import (
 	"strings"
 
 	"cassegrain/api"
+	"cassegrain/check"
 	"cassegrain/number"
 )
 
@@ -102,7 +103,7 @@ func ParseAct(s string) (api.CommandAct, api.Errno) {
 // FormatEvent returns the string of an event, the empty string if its kind is not valid.
 func FormatEvent(e api.CommandEvent) string {
 	kinds := eventKinds()
-	if !exists(kinds[:], e.Kind) {
+	if !check.Exists(kinds[:], e.Kind) {
 		return ""
 	}
 	x := kinds[e.Kind]

@@ -41,7 +41,7 @@ func CheckState(u api.CommandUplink, s api.CommandState) api.Errno {
 		check.Range(s.Base, 0, len(s.Done)),
 		check.Require(api.ErrForm, func() bool { return !s.Told || k.mayReport(s.Base, true) }),
 		check.Each(s.Down, func(act int) api.Errno {
-			return check.Require(api.ErrMissing, func() bool { return exists(u.File, act) })()
+			return check.Require(api.ErrMissing, func() bool { return check.Exists(u.File, act) })()
 		}),
 		check.Each(s.Up, func(r api.CommandReport) api.Errno {
 			return check.First(

@@ -61,7 +61,7 @@ func Contradicting(l []api.RangingMeasurement) ([]int, api.Errno) {
 	if !contradict(checked) {
 		return nil, api.ErrNone
 	}
-	set := minimumSet(len(l), func(set []int) bool {
+	set := number.MinimumSet(len(l), func(set []int) bool {
 		var chosen []measurement
 		for _, i := range set {
 			chosen = append(chosen, checked[i])

@@ -147,7 +147,7 @@ func ContradictingTones(l []api.RangingTone, limit api.Range) ([]int, api.Errno)
 	for distance := limit.Lo; distance <= limit.Hi; distance++ {
 		found[fittingOf(l, distance)] = true
 	}
-	set := minimumSet(len(l), func(set []int) bool {
+	set := number.MinimumSet(len(l), func(set []int) bool {
 		for f := range found {
 			if f.all(set) {
 				return false
